@@ -1,0 +1,1 @@
+"""Lightshares: shades as exact shares of three lights."""

@@ -1,0 +1,39 @@
+"""What several tests share: things of other kinds, and shades to try out."""
+
+from itertools import product
+
+from lightshares.shades import Shade
+
+NO_FRACTIONS = [
+    None, True, False, 0, 1, -1, "", "1/2", "1", b"1", [], [1, 2], (), (1,), (1, 2, 3), {}, {1: 2},
+    (True, 1), (False, 1), (1, True), (0, True), (2, 4), (0, 2), (3, 3), (-2, 4), (10, 5), (1, 0), (0, 0),
+    (1, -2), (-1, -2), (0, -1), ("1", 2), (1, "2"), (None, 1), (1, None), ((1, 2), 1), (1, (1, 1)), [(1, 2)],
+    ((1, 2),), ([1], [2]), object(), len, Shade, Shade((1, 2), (0, 1), (1, 1)), ValueError("1"),
+]
+
+OTHER_FRACTIONS = [(-1, 2), (3, 2), (-1, 1), (2, 1), (10 ** 59 + 1, 10 ** 59)]
+
+NO_SHARES = NO_FRACTIONS + OTHER_FRACTIONS
+
+NO_SHADES = [
+    None, True, False, 0, 1, "", "1/2 0 3/4", b"", [], (), {}, ((1, 2), (0, 1), (3, 4)), [(1, 2), (0, 1), (3, 4)],
+    (Shade((1, 2), (0, 1), (3, 4)),), [Shade((1, 2), (0, 1), (3, 4))], Shade, object(), len,
+]
+
+SOME_SHARES = [(0, 1), (1, 3), (1, 2), (5, 7), (1, 1)]
+
+SOME_SHADES = [Shade(*shares) for shares in product(SOME_SHARES, repeat=3)]
+
+BLACK = Shade((0, 1), (0, 1), (0, 1))
+WHITE = Shade((1, 1), (1, 1), (1, 1))
+
+
+def caught(error, deed, *things, **named):
+    """The refusal of this very class that the deed raises."""
+    try:
+        told = deed(*things, **named)
+    except error as refusal:
+        if type(refusal) is not error:
+            raise AssertionError(f"{type(refusal)} instead of {error}")
+        return refusal
+    raise AssertionError(f"{error} was not raised; told was {told!r}")
