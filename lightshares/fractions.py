@@ -2,6 +2,9 @@
 
 from lightshares.errors import NoNumber
 
+ZERO = (0, 1)
+ONE = (1, 1)
+
 # Python refuses to write numbers of some thousand figures at once, so they are written by pieces.
 PIECE_FIGURES = 64
 PIECE = 10 ** 64

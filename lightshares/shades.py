@@ -3,6 +3,8 @@
 from lightshares.errors import NoShade
 from lightshares.fractions import is_fraction, written
 
+MOST_SHADES = 60
+
 
 def is_share(thing):
     """Whether a thing of any kind is a fraction from 0 to 1."""
@@ -48,3 +50,16 @@ def shares_of(shade):
     """The three shares of a Shade: ember, leaf, sky."""
     need_shade(shade)
     return (shade.ember, shade.leaf, shade.sky)
+
+
+def shade_of(shares):
+    """The Shade of three shares in a row."""
+    ember, leaf, sky = shares
+    return Shade(ember, leaf, sky)
+
+
+def are_shades(thing, least, most):
+    """Whether a thing of any kind is a tuple of LEAST to MOST Shades."""
+    if not isinstance(thing, tuple) or not least <= len(thing) <= most:
+        return False
+    return all([is_shade(one) for one in thing])
