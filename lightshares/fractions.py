@@ -5,7 +5,7 @@ from lightshares.errors import NoNumber
 ZERO = (0, 1)
 ONE = (1, 1)
 
-# Python refuses to write numbers of some thousand figures at once, so they are written by pieces.
+# Python refuses to write and to read numbers of some thousand figures at once, so it is done by pieces.
 PIECE_FIGURES = 64
 PIECE = 10 ** 64
 
@@ -133,3 +133,30 @@ def written(one):
     if one[1] == 1:
         return figures(one[0])
     return f"{figures(one[0])}/{figures(one[1])}"
+
+
+def is_number(text):
+    """Whether a text is a whole number from 0 on, in figures without noughts ahead but 0 itself."""
+    return text.isascii() and text.isdigit() and (text == "0" or text[0] != "0")
+
+
+def number_in(text):
+    """The whole number, of whatever many figures, that a text shows."""
+    ahead = len(text) % PIECE_FIGURES
+    number = int("0" + text[:ahead])
+    for start in range(ahead, len(text), PIECE_FIGURES):
+        number = number * PIECE + int(text[start:start + PIECE_FIGURES])
+    return number
+
+
+def fraction_in(text):
+    """The fraction from 0 on that a text shows, or None where it isn't just so written."""
+    top, slash, bottom = text.partition("/")
+    if slash == "":
+        bottom = "1"
+    elif bottom == "1":
+        return None
+    if not is_number(top) or not is_number(bottom):
+        return None
+    told = (number_in(top), number_in(bottom))
+    return told if is_fraction(told) else None
