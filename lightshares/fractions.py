@@ -80,10 +80,24 @@ def over(one, other):
     return lowest(one[0] * other[1], one[1] * other[0])
 
 
+def less(one, other):
+    """Whether the first of two is less, in whatever terms, their bottoms from 1 on."""
+    return one[0] * other[1] < other[0] * one[1]
+
+
 def below(one, other):
     """Whether the first fraction is less than the other one."""
     need_fractions((one, other))
-    return one[0] * other[1] < other[0] * one[1]
+    return less(one, other)
+
+
+def least_of(row):
+    """The least of a row, in whatever terms, their bottoms from 1 on; None of an empty one."""
+    least = None
+    for one in row:
+        if least is None or less(one, least):
+            least = one
+    return least
 
 
 def nearest_whole(one):

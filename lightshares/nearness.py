@@ -1,11 +1,13 @@
 """Nearness: how far two Shades are, as an eye sees them."""
 
-from lightshares.errors import NoEye
-from lightshares.fractions import is_whole, lowest
-from lightshares.shades import shares_of
+from lightshares.errors import NoEye, NoLimit
+from lightshares.fractions import is_fraction, is_whole, less, lowest
+from lightshares.shades import need_shade, shares_of
 
 EVEN_EYE = (1, 1, 1)
 MOST_OF_EYE = 99
+LEAST_LIMIT = (1, 1000)
+MOST_LIMIT = (1000, 1)
 
 
 def is_eye(thing):
@@ -24,14 +26,28 @@ def eye_of(eye):
     return eye
 
 
-def far(shade, other, eye=None):
-    """The squares of what the shares are apart, each so many times as EYE tells, together."""
-    # Lowest terms are sought once, at the end: with many figures they cost more than all else.
+def gap_between(shade, other, eye):
+    """How far two Shades are by an eye, in whatever terms."""
+    # Lowest terms would cost more than all else where there are many figures.
     top = 0
     bottom = 1
-    for one, two, many in zip(shares_of(shade), shares_of(other), eye_of(eye)):
-        gap = one[0] * two[1] - two[0] * one[1]
+    for one, two, many in zip(shares_of(shade), shares_of(other), eye):
+        lack = one[0] * two[1] - two[0] * one[1]
         under = one[1] * two[1]
-        top = top * under * under + many * gap * gap * bottom
+        top = top * under * under + many * lack * lack * bottom
         bottom = bottom * under * under
+    return (top, bottom)
+
+
+def far(shade, other, eye=None):
+    """The squares of what the shares are apart, each so many times as EYE tells, together."""
+    need_shade(shade)
+    need_shade(other)
+    top, bottom = gap_between(shade, other, eye_of(eye))
     return lowest(top, bottom)
+
+
+def need_limit(thing):
+    """Refuse what is no fraction from the least to the greatest limit."""
+    if not is_fraction(thing) or less(thing, LEAST_LIMIT) or less(MOST_LIMIT, thing):
+        raise NoLimit(thing)

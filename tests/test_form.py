@@ -96,6 +96,61 @@ class Rows(unittest.TestCase):
             if isinstance(node, ast.Compare) and any(isinstance(sign, (ast.Is, ast.IsNot)) for sign in node.ops):
                 self.assertIsInstance(node.comparators[0], ast.Constant, where)
 
+    def test_no_two_files_draw_from_one_another(self):
+        drawn = {}
+        for path in FILES:
+            rows = [node for node in ast.walk(ast.parse(path.read_text())) if isinstance(node, ast.ImportFrom)]
+            drawn[path.stem] = {row.module.rpartition(".")[2] for row in rows}
+        while drawn:
+            ready = [name for name, needs in drawn.items() if not needs & set(drawn)]
+            self.assertNotEqual(ready, [], drawn)
+            for name in ready:
+                del drawn[name]
+
+    def test_each_drawn_name_is_used_and_defined_there(self):
+        for path in FILES:
+            tree = ast.parse(path.read_text())
+            used = {node.id for node in ast.walk(tree) if isinstance(node, ast.Name)}
+            for row in tree.body:
+                if isinstance(row, ast.ImportFrom):
+                    names = {name.name for name in row.names}
+                    self.assertLessEqual(names, used, path)
+                    self.assertLessEqual(names, self.tops(PACKAGE / f"{row.module.rpartition('.')[2]}.py"), path)
+
+    def tops(self, path):
+        """The names that a file's own rows bind at its top, but not those that it draws in."""
+        names = set()
+        for row in ast.parse(path.read_text()).body:
+            if isinstance(row, (ast.FunctionDef, ast.ClassDef)):
+                names.add(row.name)
+            if isinstance(row, ast.Assign):
+                names |= {target.id for target in row.targets}
+        return names
+
+    def test_no_local_is_called_like_a_class_or_an_import(self):
+        for path in FILES:
+            tree = ast.parse(path.read_text())
+            taken = {name.name for row in tree.body if isinstance(row, ast.ImportFrom) for name in row.names}
+            taken |= {row.name for row in tree.body if isinstance(row, ast.ClassDef)}
+            for node in ast.walk(tree):
+                if isinstance(node, ast.Name) and isinstance(node.ctx, ast.Store):
+                    self.assertNotIn(node.id, taken, path)
+                if isinstance(node, ast.arg):
+                    self.assertNotIn(node.arg, taken, path)
+
+    def test_texts_in_braces_and_powers(self):
+        for path in FILES:
+            text = path.read_text()
+            for node in ast.walk(ast.parse(text)):
+                where = f"{path.name}:{getattr(node, 'lineno', 0)}"
+                if isinstance(node, ast.FormattedValue):
+                    self.assertIsNone(node.format_spec, where)
+                    inner = [one for one in ast.walk(node.value) if isinstance(one, ast.Constant)]
+                    self.assertFalse([one for one in inner if isinstance(one.value, str)], where)
+                if isinstance(node, ast.BinOp) and isinstance(node.op, ast.Pow):
+                    self.assertIsInstance(node.right, ast.Constant, where)
+                    self.assertLessEqual(node.right.value, 64, where)
+
     def test_no_name_is_a_method_here_and_a_value_there(self):
         methods, values = set(), set()
         for where, node in self.nodes():

@@ -5,19 +5,12 @@ from lightshares.errors import NoEye, NoShade
 from lightshares.fractions import is_fraction
 from lightshares.nearness import far
 from lightshares.shades import Shade, shares_of
-from things import BLACK, NO_SHADES, SOME_SHADES, WHITE, caught
+from things import BLACK, NO_EYES, NO_SHADES, SOME_SHADES, WHITE, caught
 
 GREAT = 10 ** 59 + 7
 ONE = Shade((1, 2), (0, 1), (3, 4))
 OTHER = Shade((1, 3), (1, 1), (0, 1))
 EYES = [(1, 1, 1), (2, 1, 1), (1, 3, 1), (1, 1, 4), (3, 6, 1), (99, 99, 99), (1, 99, 50)]
-
-NO_EYES = [
-    True, False, 0, 1, 111, "", "1 1 1", "111", b"111", [], [1, 1, 1], (), (1,), (1, 1), (1, 1, 1, 1), {},
-    {1: 1, 2: 1, 3: 1}, (0, 1, 1), (1, 0, 1), (1, 1, 0), (100, 1, 1), (1, 100, 1), (1, 1, 100), (-1, 1, 1), (1, 1, -1),
-    (True, 1, 1), (1, True, 1), (1, 1, True), (1, 1, None), (None, None, None), ("1", 1, 1), (1, (1, 1), 1),
-    ((1, 1), (1, 1), (1, 1)), ((1, 1, 1),), (1, 1, 10 ** 59), (ONE, ONE, ONE), ONE, BLACK, object(), len, Shade,
-]
 
 
 def by_hand(shade, other, eye):

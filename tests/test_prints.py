@@ -6,7 +6,7 @@ from lightshares.errors import NoGrade, NoShade, NoStep
 from lightshares.fractions import is_fraction
 from lightshares.prints import could_be, printed, regraded, span_of
 from lightshares.shades import Shade
-from things import BLACK, NO_SHADES, SOME_SHADES, WHITE, caught
+from things import BLACK, HOLDERS, NO_SHADES, SOME_SHADES, WHITE, caught
 
 GREAT = 10 ** 59 + 7
 GRADES = [1, 2, 3, 4, 5, 7, 10, 16, 99, 254, 255, 256, 999, 1000]
@@ -15,7 +15,7 @@ SHADE = Shade((1, 2), (0, 1), (3, 4))
 NO_WHOLES = [
     None, True, False, "", "1", "255", b"1", [], [1], (), (1,), (1, 1), {}, {1: 1}, (255, 1), object(), len, Shade,
     SHADE, BLACK,
-]
+] + HOLDERS
 NO_GRADES = NO_WHOLES + [0, -1, 1001, 1002, 10 ** 59, -10 ** 59]
 
 

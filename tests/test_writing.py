@@ -6,7 +6,7 @@ from lightshares.prints import printed
 from lightshares.shades import Shade, shares_of
 from lightshares.wheel import by_wheel, wheel_of
 from lightshares.writing import read, show, ways
-from things import BLACK, NO_SHADES, SOME_SHADES, WHITE, caught
+from things import BLACK, HOLDERS, NO_SHADES, SOME_SHADES, WHITE, caught
 
 GREAT = 10 ** 59 + 7
 ONE = Shade((1, 2), (0, 1), (3, 4))
@@ -33,13 +33,13 @@ ROWS = [
 NO_TEXTS = [
     None, True, False, 0, 1, b"", b"1/2 0 3/4", b"#8000bf", [], ["1/2", "0", "3/4"], ("1/2", "0", "3/4"), (), {},
     {"1/2 0 3/4": 1}, ONE, BLACK, ((1, 2), (0, 1), (3, 4)), object(), len, Shade, str,
-]
+] + HOLDERS
 
 NO_WAYS = [
     True, False, 0, 1, "", "Shares", "SHARES", "share", " shares", "shares ", "shares\n", "prints", "wheels",
     "grey", "print wheel", "str", b"shares", [], ["shares"], ("shares",), (), {}, {"shares": 1}, ONE, BLACK, object(),
     len, show,
-]
+] + HOLDERS
 
 NO_SHARES_TEXTS = [
     "", " ", "0", "0 0", "0 0 0 0", " 0 0 0", "0 0 0 ", "0  0 0", "0 0  0", "0 0 0\n", "\n0 0 0", "0\n0\n0",
