@@ -9,7 +9,7 @@ from lightshares.errors import BookFull, NameStands, NoBack, NoEye, NoName, NoSh
 from lightshares.nearness import far
 from lightshares.shades import Shade, shares_of
 from lightshares.wheel import wheel_of
-from things import A_ROW, BLACK, HOLDERS, NO_EYES, NO_SHADES, SOME_SHADES, WHITE, caught
+from things import A_ROW, BLACK, HOLDERS, NO_EYES, NO_SHADES, SOME_SHADES, WHITE, caught, filled
 
 ONE = Shade((1, 2), (0, 1), (3, 4))
 OTHER = Shade((1, 3), (1, 1), (0, 1))
@@ -23,15 +23,8 @@ NO_NAMES = [
 ] + HOLDERS
 
 
-def book_of(rows, eye=None):
-    book = Book(eye)
-    for name, shade in rows:
-        book.put(name, shade)
-    return book
-
-
 def full_book():
-    return book_of([(chr(97 + place), SOME_SHADES[place * 5]) for place in range(24)], (3, 1, 2))
+    return filled([(chr(97 + place), SOME_SHADES[place * 5]) for place in range(24)], (3, 1, 2))
 
 
 def ember_of(shade):
@@ -137,18 +130,18 @@ class Deeds(unittest.TestCase):
         self.assertEqual(str(book), "eye 1 1 1\nsky 1/2 0 3/4\nleaf 1/3 1 0")
 
     def test_two_names_may_have_one_shade(self):
-        book = book_of([("sky", ONE), ("leaf", ONE)])
+        book = filled([("sky", ONE), ("leaf", ONE)])
         self.assertEqual(book.called(BLACK), ("leaf", "sky"))
 
     def test_alter(self):
-        book = book_of([("sky", ONE), ("leaf", OTHER)])
+        book = filled([("sky", ONE), ("leaf", OTHER)])
         self.assertIsNone(book.alter("sky", opposite))
         self.assertIsNone(book.alter(deed=lambda shade: lighter(shade, (1, 3)), name="leaf"))
         rows = [("sky", opposite(ONE)), ("leaf", lighter(OTHER, (1, 3)))]
         self.assertEqual(told_by(book), told_by_hand(rows, (1, 1, 1)))
 
     def test_altered_to_the_same_is_a_deed_too(self):
-        book = book_of([("sky", ONE)])
+        book = filled([("sky", ONE)])
         book.alter("sky", lambda shade: shade)
         book.back()
         self.assertEqual(book.names(), ("sky",))
@@ -156,7 +149,7 @@ class Deeds(unittest.TestCase):
         self.assertEqual(book.names(), ())
 
     def test_rename_stays_in_its_place(self):
-        book = book_of([("sky", ONE), ("leaf", OTHER), ("ember", WHITE)])
+        book = filled([("sky", ONE), ("leaf", OTHER), ("ember", WHITE)])
         self.assertIsNone(book.rename("leaf", "zzz"))
         self.assertEqual(book.names(), ("sky", "zzz", "ember"))
         self.assertIsNone(book.rename(new="aaa", name="sky"))
@@ -167,7 +160,7 @@ class Deeds(unittest.TestCase):
         self.assertEqual(book.names(), ("aaa", "zzz", "ember", "leaf"))
 
     def test_drop_and_put_in_again(self):
-        book = book_of([("sky", ONE), ("leaf", OTHER), ("ember", WHITE)])
+        book = filled([("sky", ONE), ("leaf", OTHER), ("ember", WHITE)])
         self.assertIsNone(book.drop("sky"))
         self.assertEqual(told_by(book), told_by_hand([("leaf", OTHER), ("ember", WHITE)], (1, 1, 1)))
         book.put("sky", ONE)
@@ -176,7 +169,7 @@ class Deeds(unittest.TestCase):
         self.assertEqual(book.names(), ("leaf", "sky"))
 
     def test_back_restores_place_and_shade(self):
-        book = book_of([("sky", ONE), ("leaf", OTHER), ("ember", WHITE)])
+        book = filled([("sky", ONE), ("leaf", OTHER), ("ember", WHITE)])
         ahead = told_by(book)
         for deed in (lambda: book.drop("sky"), lambda: book.rename("leaf", "zzz"), lambda: book.put("last", BLACK),
                      lambda: book.alter("ember", darker)):
@@ -186,7 +179,7 @@ class Deeds(unittest.TestCase):
             self.assertEqual(told_by(book), ahead)
 
     def test_what_was_taken_back_is_not_taken_back_again(self):
-        book = book_of([("sky", ONE), ("leaf", OTHER)])
+        book = filled([("sky", ONE), ("leaf", OTHER)])
         book.back()
         book.put("ember", WHITE)
         book.back()
@@ -214,7 +207,7 @@ class Refused(unittest.TestCase):
         return refusal
 
     def test_put_by_order(self):
-        book, full = book_of([("sky", ONE), ("leaf", OTHER)]), full_book()
+        book, full = filled([("sky", ONE), ("leaf", OTHER)]), full_book()
         for thing in NO_NAMES:
             with self.subTest(repr(thing)):
                 for shade in (ONE, None, "no"):
@@ -243,7 +236,7 @@ class Refused(unittest.TestCase):
         self.assertEqual(self.unchanged(book, BookFull, book.put, "more", ONE).many, 24)
 
     def test_names_that_do_not_stand(self):
-        book = book_of([("sky", ONE), ("leaf", OTHER)])
+        book = filled([("sky", ONE), ("leaf", OTHER)])
         for thing in NO_NAMES + ["ember", "skys", "sk"]:
             with self.subTest(repr(thing)):
                 for error in (
@@ -265,7 +258,7 @@ class Refused(unittest.TestCase):
                     self.assertIs(error.name, thing)
 
     def test_rename_by_order(self):
-        book = book_of([("sky", ONE), ("leaf", OTHER)])
+        book = filled([("sky", ONE), ("leaf", OTHER)])
         for thing in NO_NAMES:
             with self.subTest(repr(thing)):
                 self.assertIs(self.unchanged(book, NoWord, book.rename, "sky", thing).word, thing)
@@ -275,20 +268,20 @@ class Refused(unittest.TestCase):
         self.assertEqual(self.unchanged(book, NameStands, book.rename, "sky", "sky").name, "sky")
 
     def test_a_deed_that_tells_no_shade(self):
-        book = book_of([("sky", ONE), ("leaf", OTHER)])
+        book = filled([("sky", ONE), ("leaf", OTHER)])
         for thing in NO_SHADES + [Blend()]:
             with self.subTest(repr(thing)):
                 self.assertIsNone(self.unchanged(book, NoShade, book.alter, "sky", lambda shade: thing).light)
 
     def test_called_of_what_is_no_shade(self):
-        for book in (Book(), book_of([("sky", ONE), ("leaf", OTHER)])):
+        for book in (Book(), filled([("sky", ONE), ("leaf", OTHER)])):
             for thing in NO_SHADES + [Blend()]:
                 with self.subTest(repr(thing)):
                     self.assertIsNone(caught(NoShade, book.called, thing).light)
                     self.assertIsNone(caught(NoShade, book.called, shade=thing).light)
 
     def test_what_is_refused_is_no_deed_to_take_back(self):
-        book = book_of([("sky", ONE)])
+        book = filled([("sky", ONE)])
         caught(NameStands, book.put, "sky", OTHER)
         caught(NoShade, book.alter, "sky", lambda shade: None)
         caught(NameStands, book.rename, "sky", "sky")
@@ -396,14 +389,14 @@ class Told(unittest.TestCase):
     ]
 
     def test_kinds(self):
-        book = book_of(self.ROWS)
+        book = filled(self.ROWS)
         for told in (book.names(), book.names(ember_of), book.names(about=True), book.those(is_bright),
                      book.called(ONE), book.apart("sky", "leaf"), book.eye):
             self.assertIs(type(told), tuple)
         self.assertIsInstance(book.shade("sky"), Shade)
 
     def test_by_key_with_ties(self):
-        book = book_of(self.ROWS)
+        book = filled(self.ROWS)
         self.assertEqual(book.names(), ("sky", "leaf", "rust", "ash", "ink"))
         self.assertEqual(book.names(None), ("sky", "leaf", "rust", "ash", "ink"))
         self.assertEqual(book.names(None, False), ("sky", "leaf", "rust", "ash", "ink"))
@@ -422,7 +415,7 @@ class Told(unittest.TestCase):
 
     def test_by_many_keys(self):
         rows = [(chr(97 + place) * 3, SOME_SHADES[(place * 37) % 125]) for place in range(24)]
-        book = book_of(rows)
+        book = filled(rows)
         for key in (len, str, repr, shares_of, lambda shade: -len(shade), lambda shade: wheel_of(shade)[1],
                     lambda shade: shade.sky == (1, 2), lambda shade: [len(shade), shade.leaf]):
             names = [name for name, shade in sorted(rows, key=lambda row: key(row[1]))]
@@ -430,7 +423,7 @@ class Told(unittest.TestCase):
             self.assertEqual(book.names(key, True), tuple(names[::-1]))
 
     def test_those(self):
-        book = book_of(self.ROWS)
+        book = filled(self.ROWS)
         self.assertEqual(book.those(lambda shade: len(shade) == 2), ("sky", "leaf", "rust"))
         self.assertEqual(book.those(ask=lambda shade: shade == BLACK), ("ink",))
         self.assertEqual(book.those(lambda shade: True), book.names())
@@ -438,7 +431,7 @@ class Told(unittest.TestCase):
 
     def test_apart(self):
         for eye in ((1, 1, 1), (3, 6, 1)):
-            book = book_of(self.ROWS, eye)
+            book = filled(self.ROWS, eye)
             for name, shade in self.ROWS:
                 for other, page in self.ROWS:
                     self.assertEqual(book.apart(name, other), far(shade, page, eye))
@@ -447,7 +440,7 @@ class Told(unittest.TestCase):
 
     def test_nearest_names_with_ties(self):
         half = Shade((1, 2), (1, 2), (1, 2))
-        book = book_of([("white", WHITE), ("black", BLACK), ("ash", half), ("ashtoo", half)])
+        book = filled([("white", WHITE), ("black", BLACK), ("ash", half), ("ashtoo", half)])
         self.assertEqual(book.called(half), ("ash", "ashtoo"))
         self.assertEqual(book.called(Shade((1, 4), (1, 4), (1, 4))), ("ash", "ashtoo", "black"))
         self.assertEqual(book.called(shade=Shade((3, 4), (3, 4), (3, 4))), ("ash", "ashtoo", "white"))
@@ -459,39 +452,39 @@ class Told(unittest.TestCase):
 
     def test_nearest_by_worth_not_as_tuples(self):
         # As tuples (1, 16) < (1, 25) < (1, 4), by their worth 1/25 is the least.
-        book = book_of([("a", Shade((1, 2), (0, 1), (0, 1))), ("b", Shade((1, 5), (0, 1), (0, 1))),
+        book = filled([("a", Shade((1, 2), (0, 1), (0, 1))), ("b", Shade((1, 5), (0, 1), (0, 1))),
                         ("c", Shade((0, 1), (1, 4), (0, 1)))])
         self.assertEqual(book.called(BLACK), ("b",))
 
     def test_nearest_by_its_eye(self):
         rows = [("ember", Shade((1, 2), (0, 1), (0, 1))), ("leaf", Shade((0, 1), (1, 2), (0, 1))),
                 ("sky", Shade((0, 1), (0, 1), (1, 2)))]
-        self.assertEqual(book_of(rows).called(BLACK), ("ember", "leaf", "sky"))
-        self.assertEqual(book_of(rows, (2, 1, 1)).called(BLACK), ("leaf", "sky"))
-        self.assertEqual(book_of(rows, (2, 3, 1)).called(BLACK), ("sky",))
-        self.assertEqual(book_of(rows, (1, 2, 99)).called(BLACK), ("ember",))
+        self.assertEqual(filled(rows).called(BLACK), ("ember", "leaf", "sky"))
+        self.assertEqual(filled(rows, (2, 1, 1)).called(BLACK), ("leaf", "sky"))
+        self.assertEqual(filled(rows, (2, 3, 1)).called(BLACK), ("sky",))
+        self.assertEqual(filled(rows, (1, 2, 99)).called(BLACK), ("ember",))
 
     def test_nearest_of_any(self):
         rows = [(chr(97 + place), SOME_SHADES[(place * 37) % 125]) for place in range(24)]
         for eye in ((1, 1, 1), (3, 6, 1), (99, 1, 1)):
-            book = book_of(rows, eye)
+            book = filled(rows, eye)
             for shade in SOME_SHADES:
                 self.assertEqual(book.called(shade), nearest_by_hand(rows, shade, eye))
 
     def test_what_was_told_stays_when_the_book_goes_on(self):
-        book = book_of(self.ROWS)
+        book = filled(self.ROWS)
         told = (book.names(), book.called(ONE), book.shade("sky"), book.those(is_bright))
         book.alter("sky", opposite)
         book.drop("leaf")
         self.assertEqual(told, (("sky", "leaf", "rust", "ash", "ink"), ("sky",), ONE, ("leaf",)))
 
     def test_str_and_repr(self):
-        book = book_of(self.ROWS, (3, 6, 1))
+        book = filled(self.ROWS, (3, 6, 1))
         rows = ["eye 3 6 1", "sky 1/2 0 3/4", "leaf 1/3 1 0", "rust 1/2 1/4 0", "ash 1/3 1/3 1/3", "ink 0 0 0"]
         self.assertEqual(str(book), "\n".join(rows))
         self.assertEqual(repr(book), "Book(5)")
         self.assertEqual(len(book), 5)
-        self.assertIs(bool(book_of([("ink", BLACK)])), True)
+        self.assertIs(bool(filled([("ink", BLACK)])), True)
         self.assertEqual(repr(full_book()), "Book(24)")
 
 
@@ -499,36 +492,36 @@ class Alike(unittest.TestCase):
     ROWS = [("sky", ONE), ("leaf", OTHER), ("ink", BLACK)]
 
     def test_in_whatever_turn(self):
-        book = book_of(self.ROWS, (3, 6, 1))
-        for other in (book_of(self.ROWS, (3, 6, 1)), book_of(self.ROWS[::-1], (3, 6, 1)), book):
+        book = filled(self.ROWS, (3, 6, 1))
+        for other in (filled(self.ROWS, (3, 6, 1)), filled(self.ROWS[::-1], (3, 6, 1)), book):
             self.assertIs(book == other, True)
             self.assertIs(book != other, False)
         self.assertIs(Book() == Book((1, 1, 1)), True)
 
     def test_whatever_was_done_ahead(self):
-        book = book_of([("leaf", WHITE), ("night", BLACK), ("gone", ONE), ("sky", ONE)])
+        book = filled([("leaf", WHITE), ("night", BLACK), ("gone", ONE), ("sky", ONE)])
         book.alter("leaf", lambda shade: OTHER)
         book.rename("night", "ink")
-        self.assertIs(book == book_of(self.ROWS), False)
+        self.assertIs(book == filled(self.ROWS), False)
         book.drop("gone")
-        self.assertIs(book == book_of(self.ROWS), True)
+        self.assertIs(book == filled(self.ROWS), True)
         book.back()
-        self.assertIs(book == book_of(self.ROWS), False)
+        self.assertIs(book == filled(self.ROWS), False)
 
     def test_unlike(self):
-        book = book_of(self.ROWS)
-        for other in (Book(), book_of(self.ROWS[:2]), book_of(self.ROWS, (1, 1, 2)),
-                      book_of(self.ROWS + [("more", ONE)]),
-                      book_of([("sky", ONE), ("leaf", OTHER), ("ash", BLACK)]),
-                      book_of([("sky", OTHER), ("leaf", ONE), ("ink", BLACK)]),
-                      book_of([("sky", ONE), ("leaf", OTHER), ("ink", WHITE)])):
+        book = filled(self.ROWS)
+        for other in (Book(), filled(self.ROWS[:2]), filled(self.ROWS, (1, 1, 2)),
+                      filled(self.ROWS + [("more", ONE)]),
+                      filled([("sky", ONE), ("leaf", OTHER), ("ash", BLACK)]),
+                      filled([("sky", OTHER), ("leaf", ONE), ("ink", BLACK)]),
+                      filled([("sky", ONE), ("leaf", OTHER), ("ink", WHITE)])):
             self.assertIs(book == other, False)
             self.assertIs(other == book, False)
             self.assertIs(book != other, True)
         self.assertIs(Book() == Book((1, 1, 2)), False)
 
     def test_things_of_other_kinds_are_not_alike(self):
-        for book in (Book((7, 7, 7)), book_of(self.ROWS)):
+        for book in (Book((7, 7, 7)), filled(self.ROWS)):
             for thing in NO_SHADES + HOLDERS + [ONE, A_ROW, str(book), len(book), {"sky": ONE}, (book,), [book]]:
                 with self.subTest(repr(thing)):
                     self.assertIs(book == thing, False)

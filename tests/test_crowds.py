@@ -7,28 +7,15 @@ from lightshares.deeds import opposite
 from lightshares.errors import NoBack, NoLimit, NoName
 from lightshares.nearness import far
 from lightshares.shades import Shade
-from things import BLACK, HOLDERS, NO_LIMITS, NO_SHADES, SOME_SHADES, WHITE, caught
+from things import BLACK, NO_BOOKS, NO_LIMITS, SOME_SHADES, WHITE, as_tuple, caught, filled
 
 GREAT = 10 ** 59 + 7
 ASKED = (pairs_near, crowds, thinned)
-NO_BOOKS = [thing for thing in NO_SHADES + HOLDERS if not isinstance(thing, Book)]
-NO_BOOKS += [BLACK, WHITE, (Book(),), [Book()], Book]
-
-
-def as_tuple(value):
-    return (value.numerator, value.denominator)
-
-
-def book_of(rows, eye=None):
-    book = Book(eye)
-    for name, shade in rows:
-        book.put(name, shade)
-    return book
 
 
 def greys(**tops):
     """A Book of Shades along one light, tenths apart."""
-    return book_of([(name, Shade(as_tuple(Fraction(top, 10)), (0, 1), (0, 1))) for name, top in tops.items()])
+    return filled([(name, Shade(as_tuple(Fraction(top, 10)), (0, 1), (0, 1))) for name, top in tops.items()])
 
 
 def near_by_hand(book, limit):
@@ -56,7 +43,7 @@ def some_books():
             for many in (0, 1, 2, 9, 24):
                 rows = [(chr(97 + (place * 7) % 26) * (1 + place % 5), SOME_SHADES[(place * step) % 125])
                         for place in range(many)]
-                yield book_of(rows, eye)
+                yield filled(rows, eye)
 
 
 LIMITS = [(1, 1000), (1, 36), (1, 9), (1, 4), (1, 2), (1, 1), (3, 1), (17, 2), (100, 1), (1000, 1)]
@@ -82,17 +69,17 @@ class Pairs(unittest.TestCase):
         self.assertEqual(thinned(book, as_tuple(Fraction(1, 25) + Fraction(1, GREAT))).names(), ("one",))
 
     def test_alike_shades_are_too_near(self):
-        book = book_of([("two", WHITE), ("one", WHITE)])
+        book = filled([("two", WHITE), ("one", WHITE)])
         self.assertEqual(pairs_near(book, (1, 1000)), (("one", "two"),))
         self.assertEqual(crowds(book, (1, 1000)), (("one", "two"),))
         self.assertEqual(thinned(book, (1, 1000)).names(), ("two",))
 
     def test_by_the_books_eye(self):
         rows = [("ink", BLACK), ("ember", Shade((1, 2), (0, 1), (0, 1))), ("sky", Shade((0, 1), (0, 1), (1, 2)))]
-        self.assertEqual(pairs_near(book_of(rows), (1, 3)), (("ember", "ink"), ("ink", "sky")))
-        self.assertEqual(pairs_near(book_of(rows, (2, 1, 1)), (1, 3)), (("ink", "sky"),))
-        self.assertEqual(crowds(book_of(rows, (2, 1, 1)), (1, 3)), (("ember",), ("ink", "sky")))
-        self.assertEqual(thinned(book_of(rows, (2, 1, 1)), (1, 3)).names(), ("ink", "ember"))
+        self.assertEqual(pairs_near(filled(rows), (1, 3)), (("ember", "ink"), ("ink", "sky")))
+        self.assertEqual(pairs_near(filled(rows, (2, 1, 1)), (1, 3)), (("ink", "sky"),))
+        self.assertEqual(crowds(filled(rows, (2, 1, 1)), (1, 3)), (("ember",), ("ink", "sky")))
+        self.assertEqual(thinned(filled(rows, (2, 1, 1)), (1, 3)).names(), ("ink", "ember"))
 
     def test_any_book(self):
         for book in some_books():
@@ -114,7 +101,7 @@ class Crowds(unittest.TestCase):
 
     def test_a_long_chain(self):
         shades = [Shade(as_tuple(Fraction(place, 23)), (0, 1), (0, 1)) for place in range(24)]
-        book = book_of([(chr(97 + (place * 5) % 24), shade) for place, shade in enumerate(shades)])
+        book = filled([(chr(97 + (place * 5) % 24), shade) for place, shade in enumerate(shades)])
         self.assertEqual(crowds(book, (1, 528)), (tuple([chr(97 + place) for place in range(24)]),))
         self.assertEqual(len(crowds(book, (1, 529))), 24)
 

@@ -6,21 +6,13 @@ from lightshares.errors import NoGrade, NoShade, NoStep
 from lightshares.fractions import is_fraction
 from lightshares.prints import could_be, printed, regraded, span_of
 from lightshares.shades import Shade
-from things import BLACK, HOLDERS, NO_SHADES, SOME_SHADES, WHITE, caught
+from things import (
+    BLACK, NO_GRADES, NO_SHADES, NO_WHOLES, SOME_SHADES, WHITE, as_tuple, caught, no_steps
+)
 
 GREAT = 10 ** 59 + 7
 GRADES = [1, 2, 3, 4, 5, 7, 10, 16, 99, 254, 255, 256, 999, 1000]
 SHADE = Shade((1, 2), (0, 1), (3, 4))
-
-NO_WHOLES = [
-    None, True, False, "", "1", "255", b"1", [], [1], (), (1,), (1, 1), {}, {1: 1}, (255, 1), object(), len, Shade,
-    SHADE, BLACK,
-] + HOLDERS
-NO_GRADES = NO_WHOLES + [0, -1, 1001, 1002, 10 ** 59, -10 ** 59]
-
-
-def as_tuple(value):
-    return (value.numerator, value.denominator)
 
 
 def step_by_hand(share, grade):
@@ -29,11 +21,6 @@ def step_by_hand(share, grade):
 
 def grey(share):
     return Shade(*[as_tuple(share)] * 3)
-
-
-def no_steps(grade):
-    """Things that are no step of a grade."""
-    return NO_WHOLES + [-1, grade + 1, grade + 2, 10 ** 59, -10 ** 59]
 
 
 class Printed(unittest.TestCase):

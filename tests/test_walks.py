@@ -6,25 +6,12 @@ from lightshares.errors import NoName, NoPart, NoShade
 from lightshares.fractions import is_fraction
 from lightshares.shades import Shade, shares_of
 from lightshares.walks import between, walk
-from things import BLACK, HOLDERS, NO_SHADES, NO_SHARES, SOME_SHADES, WHITE, caught
+from things import BLACK, NO_BOOKS, NO_SHADES, NO_SHARES, SOME_SHADES, WHITE, as_tuple, caught, filled
 
 GREAT = 10 ** 59 + 7
 ONE = Shade((1, 2), (0, 1), (3, 4))
 OTHER = Shade((1, 3), (1, 1), (0, 1))
-NO_BOOKS = [thing for thing in NO_SHADES + HOLDERS if not isinstance(thing, Book)]
-NO_BOOKS += [BLACK, ONE, (Book(),), [Book()], Book]
 LITTLE = Fraction(1, GREAT)
-
-
-def as_tuple(value):
-    return (value.numerator, value.denominator)
-
-
-def book_of(rows, eye=None):
-    book = Book(eye)
-    for name, shade in rows:
-        book.put(name, shade)
-    return book
 
 
 def grey(share):
@@ -37,7 +24,7 @@ def some_books():
             for many in (1, 2, 9, 24):
                 rows = [(chr(97 + (place * 7) % 26) * (1 + place % 5), SOME_SHADES[(place * step) % 125])
                         for place in range(many)]
-                yield book_of(rows, eye)
+                yield filled(rows, eye)
 
 
 def great_book():
@@ -46,7 +33,7 @@ def great_book():
         tops = [(GREAT // 40) * ((place * 7 + light * 5) % 23 + 1) for light in range(3)]
         shares = [Fraction(top, GREAT + 2 * place + light) for light, top in enumerate(tops)]
         rows.append((chr(97 + place), Shade(*[as_tuple(share) for share in shares])))
-    return book_of(rows, (5, 3, 2))
+    return filled(rows, (5, 3, 2))
 
 
 WAYS = [(BLACK, WHITE), (WHITE, BLACK), (ONE, OTHER), (SOME_SHADES[7], SOME_SHADES[93]),
@@ -90,7 +77,7 @@ class Between(unittest.TestCase):
 
 class Walk(unittest.TestCase):
     def test_written_out(self):
-        book = book_of([("white", WHITE), ("black", BLACK)])
+        book = filled([("white", WHITE), ("black", BLACK)])
         self.assertEqual(walk(book, BLACK, WHITE), (((0, 1), (1, 2), "black"), ((1, 2), (1, 1), "white")))
         self.assertEqual(walk(book, WHITE, BLACK), (((0, 1), (1, 2), "white"), ((1, 2), (1, 1), "black")))
         self.assertEqual(walk(other=grey(Fraction(1, 4)), shade=BLACK, book=book), (((0, 1), (1, 1), "black"),))
@@ -99,11 +86,11 @@ class Walk(unittest.TestCase):
         self.assertEqual(walk(book, half, BLACK), (((0, 1), (0, 1), "white"), ((0, 1), (1, 1), "black")))
 
     def test_rising_by_worth_not_as_tuples(self):
-        book = book_of([("d", WHITE), ("c", grey(Fraction(1, 2))), ("b", grey(Fraction(1, 2))),
+        book = filled([("d", WHITE), ("c", grey(Fraction(1, 2))), ("b", grey(Fraction(1, 2))),
                         ("a", grey(Fraction(1, 6)))])
         self.assertEqual(walk(book, BLACK, WHITE), (
             ((0, 1), (1, 3), "a"), ((1, 3), (3, 4), "b"), ((1, 3), (3, 4), "c"), ((3, 4), (1, 1), "d")))
-        many = book_of([(chr(122 - place), grey(Fraction(place, 11))) for place in range(12)])
+        many = filled([(chr(122 - place), grey(Fraction(place, 11))) for place in range(12)])
         told = walk(many, BLACK, WHITE)
         self.assertEqual([row[2] for row in told], [chr(122 - place) for place in range(12)])
         self.assertEqual(told[5], ((9, 22), (1, 2), "u"))
@@ -112,13 +99,13 @@ class Walk(unittest.TestCase):
 
     def test_ties_all_along(self):
         # Both stand equally far from every Shade of the way, on either side of it.
-        book = book_of([("sky", Shade((0, 1), (0, 1), (1, 1))), ("leaf", Shade((0, 1), (1, 1), (0, 1)))])
+        book = filled([("sky", Shade((0, 1), (0, 1), (1, 1))), ("leaf", Shade((0, 1), (1, 1), (0, 1)))])
         self.assertEqual(walk(book, BLACK, WHITE), (((0, 1), (1, 1), "leaf"), ((0, 1), (1, 1), "sky")))
 
     def test_a_name_that_is_nearest_at_one_place_alone(self):
         # It is as near as both others just where they meet, and farther everywhere else.
         top, right = Shade((1, 2), (1, 2), (0, 1)), Shade((1, 1), (0, 1), (0, 1))
-        book = book_of([("left", BLACK), ("right", right), ("top", top)])
+        book = filled([("left", BLACK), ("right", right), ("top", top)])
         told = walk(book, BLACK, right)
         self.assertEqual(told, (((0, 1), (1, 2), "left"), ((1, 2), (1, 2), "top"), ((1, 2), (1, 1), "right")))
 
@@ -157,7 +144,7 @@ class Walk(unittest.TestCase):
             self.held_against_called(book, shade, other)
 
     def test_asking_changes_nothing(self):
-        book = book_of([("white", WHITE), ("black", BLACK)])
+        book = filled([("white", WHITE), ("black", BLACK)])
         ahead = str(book)
         walk(book, ONE, OTHER)
         self.assertEqual((str(book), str(ONE), str(OTHER)), (ahead, "1/2 0 3/4", "1/3 1 0"))
@@ -174,7 +161,7 @@ class Refused(unittest.TestCase):
                 self.assertIsNone(caught(NoName, walk, other=None, shade=None, book=thing).name)
 
     def test_what_is_no_shade(self):
-        for book in (Book(), book_of([("white", WHITE), ("black", BLACK)])):
+        for book in (Book(), filled([("white", WHITE), ("black", BLACK)])):
             for thing in NO_SHADES:
                 with self.subTest(repr(thing)):
                     self.assertIsNone(caught(NoShade, walk, book, thing, OTHER).light)

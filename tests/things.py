@@ -1,5 +1,6 @@
 """What several tests share: things of other kinds, and shades to try out."""
 
+from fractions import Fraction
 from itertools import product
 
 from lightshares.blends import Blend
@@ -62,6 +63,38 @@ NO_LIMITS = NO_FRACTIONS + [
 
 BLACK = Shade((0, 1), (0, 1), (0, 1))
 WHITE = Shade((1, 1), (1, 1), (1, 1))
+
+NO_BOOKS = [thing for thing in NO_SHADES + HOLDERS if not isinstance(thing, Book)]
+NO_BOOKS += [BLACK, WHITE, SOME_SHADES[7], (Book(),), [Book()], Book, "eye 1 1 1"]
+
+NO_WHOLES = [
+    None, True, False, "", "1", "255", b"1", [], [1], (), (1,), (1, 1), {}, {1: 1}, (255, 1), object(), len, Shade,
+    SOME_SHADES[7], BLACK,
+] + HOLDERS
+NO_GRADES = NO_WHOLES + [0, -1, 1001, 1002, 10 ** 59, -10 ** 59]
+
+
+def no_steps(grade):
+    """Things that are no step of a grade."""
+    return NO_WHOLES + [-1, grade + 1, grade + 2, 10 ** 59, -10 ** 59]
+
+
+def as_tuple(value):
+    """A Fraction of Python's as a fraction of the program's."""
+    return (value.numerator, value.denominator)
+
+
+def shade_at(*shares):
+    """The Shade of three shares that Python's Fraction takes."""
+    return Shade(*[as_tuple(Fraction(share)) for share in shares])
+
+
+def filled(rows, eye=None):
+    """A Book into which rows (NAME, SHADE) were put."""
+    book = Book(eye)
+    for name, shade in rows:
+        book.put(name, shade)
+    return book
 
 
 def caught(error, deed, /, *things, **named):
