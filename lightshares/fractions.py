@@ -91,6 +91,27 @@ def below(one, other):
     return less(one, other)
 
 
+def alike(one, other):
+    """Whether two are of the same worth, in whatever terms."""
+    return one[0] * other[1] == other[0] * one[1]
+
+
+def what_more(one, other):
+    """What the first of two has more than the other one, in whatever terms."""
+    return (one[0] * other[1] - other[0] * one[1], one[1] * other[1])
+
+
+def weighed(weights, row):
+    """All of a row together, each so many times as its weight tells, in whatever terms."""
+    top = 0
+    bottom = 1
+    for weight, one in zip(weights, row):
+        under = weight[1] * one[1]
+        top = top * under + weight[0] * one[0] * bottom
+        bottom = bottom * under
+    return (top, bottom)
+
+
 def least_of(row):
     """The least of a row, in whatever terms, their bottoms from 1 on; None of an empty one."""
     least = None

@@ -47,7 +47,12 @@ def far(shade, other, eye=None):
     return lowest(top, bottom)
 
 
+def is_limit(thing):
+    """Whether a thing of any kind is a fraction from the least to the greatest limit."""
+    return is_fraction(thing) and not less(thing, LEAST_LIMIT) and not less(MOST_LIMIT, thing)
+
+
 def need_limit(thing):
-    """Refuse what is no fraction from the least to the greatest limit."""
-    if not is_fraction(thing) or less(thing, LEAST_LIMIT) or less(MOST_LIMIT, thing):
+    """Refuse what is no limit."""
+    if not is_limit(thing):
         raise NoLimit(thing)

@@ -8,9 +8,14 @@ USUAL_GRADE = 255
 MOST_GRADE = 1000
 
 
+def is_grade(thing):
+    """Whether a thing of any kind is a grade."""
+    return is_whole(thing) and 1 <= thing <= MOST_GRADE
+
+
 def need_grade(thing):
     """Refuse what is no grade."""
-    if not is_whole(thing) or not 1 <= thing <= MOST_GRADE:
+    if not is_grade(thing):
         raise NoGrade(thing)
 
 
